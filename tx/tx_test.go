@@ -697,6 +697,21 @@ func TestWhatIsAnsweredStays(t *testing.T) {
 	}
 }
 
+func TestClone(t *testing.T) {
+	for _, x := range append(many(20), api.Tx{}, sized(101, 101)) {
+		all, part := roomy(x)
+		before := whole(all)
+		y := tx.Clone(part)
+		if !alike(x, y) {
+			t.Fatalf("Clone(%#v) is %#v", x, y)
+		}
+		spoilTx(y)
+		if !alike(all, before) {
+			t.Fatalf("a clone shares memory with what it was made of: %#v", x)
+		}
+	}
+}
+
 // What was handed in once and changed since is asked anew: nothing of it was kept.
 func TestNothingIsKept(t *testing.T) {
 	x := sample()
